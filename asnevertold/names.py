@@ -1,9 +1,10 @@
-"""The least things: whole numbers, names, worths and moments, known from anything else."""
+"""The least things: whole numbers, names, worths, moments and keys, known from anything else."""
 
 LETTERS = "abcdefghijklmnopqrstuvwxyz"
 LONGEST_NAME = 8
 LAST_WORTH = 9
 LAST_MOMENT = 999
+LAST_NUMBER = 9999
 
 
 def is_whole(thing):
@@ -31,3 +32,31 @@ def is_worth(thing):
 def is_moment(thing):
     """Whether thing is a moment: a whole number from 0 to 999."""
     return is_whole_within(thing, 0, LAST_MOMENT)
+
+
+def is_span(since, till):
+    """Whether since is a moment, and till a greater one, or None: without end."""
+    return is_moment(since) and (till is None or (is_moment(till) and till > since))
+
+
+def is_key(thing):
+    """Whether thing is a key of an entry: a tuple (source, number)."""
+    if not isinstance(thing, tuple) or len(thing) != 2:
+        return False
+    return is_name(thing[0]) and is_whole_within(thing[1], 0, LAST_NUMBER)
+
+
+def are_names(thing):
+    """Whether thing is a list or a tuple of names."""
+    return isinstance(thing, (list, tuple)) and all([is_name(one) for one in thing])
+
+
+def is_one_of(words, thing):
+    """Whether thing is one of these words."""
+    # A thing of another kind is never compared: it may liken itself to any word.
+    return is_name(thing) and thing in words
+
+
+def are_unlike(things):
+    """Whether no two of these tuples begin with the same name."""
+    return len(set([thing[0] for thing in things])) == len(things)

@@ -5,7 +5,7 @@ columns, tuples (name, kind). Of each deriving a function makes the columns, or 
 """
 
 from asnevertold.errors import NoPlan, NoTable
-from asnevertold.names import is_name, is_whole_within, is_worth
+from asnevertold.names import are_unlike, is_name, is_one_of, is_whole_within, is_worth
 
 MOST_DERIVINGS = 12
 FARTHEST = 3
@@ -26,12 +26,6 @@ SHAPES = {
 }
 
 
-def is_one_of(words, thing):
-    """Whether thing is one of these words."""
-    # A thing of another kind is never compared: it may liken itself to any word.
-    return is_name(thing) and thing in words
-
-
 def kind_of(columns, thing):
     """The kind of the column that is called so, None of anything else."""
     if is_name(thing):
@@ -41,9 +35,9 @@ def kind_of(columns, thing):
     return None
 
 
-def are_unlike(columns):
-    """Whether no two columns are called alike."""
-    return len(set([column[0] for column in columns])) == len(columns)
+def place_of(columns, name):
+    """The place of the column that is called so."""
+    return [column[0] for column in columns].index(name)
 
 
 def are_by(columns, thing):

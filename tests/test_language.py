@@ -29,6 +29,10 @@ METHODS = set(
     "istitle isidentifier isprintable translate popleft appendleft extendleft rotate __init__".split())
 BARRED = (ast.AsyncFunctionDef, ast.AsyncFor, ast.AsyncWith, ast.Await, ast.Import)
 BARRED_SIGNS = (ast.Div, ast.MatMult)
+BARRED_WORDS = set(
+    "register mro elements open input law version_info with_traceback add_note attrgetter breakpoint builtins compile "
+    "copyright credits delattr dir eval exec exit gc globals help id importlib license locals methodcaller os quit "
+    "vars sys typing enum Enum namedtuple dataclass abstractmethod print chr _wall".split())
 
 
 def files():
@@ -123,6 +127,79 @@ class Language(unittest.TestCase):
                 self.assertIsInstance(node.ctx, ast.Load, place)
         for place, node in self.each(ast.arg):
             self.assertFalse(hasattr(builtins, node.arg), place)
+
+    def test_barred_words(self):
+        for place, node in self.each((ast.Name, ast.arg, ast.Attribute, ast.FunctionDef, ast.ClassDef, ast.keyword)):
+            fields = [getattr(node, field, None) for field in ("id", "arg", "attr", "name")]
+            self.assertEqual([word for word in fields if word in BARRED_WORDS], [], place)
+
+    def test_no_name_has_two_meanings_in_a_file(self):
+        for name, tree in TREES.items():
+            nodes = list(ast.walk(tree))
+            taken = {node.name for node in tree.body if isinstance(node, (ast.FunctionDef, ast.ClassDef))}
+            taken |= {alias.name for node in nodes if isinstance(node, ast.ImportFrom) for alias in node.names}
+            local = {node.arg for node in nodes if isinstance(node, ast.arg)}
+            local |= {node.id for node in nodes if isinstance(node, ast.Name) and isinstance(node.ctx, ast.Store)}
+            self.assertEqual(taken & local, set(), name)
+            for node in nodes:
+                if isinstance(node, ast.Name):
+                    self.assertFalse(node.id == "_" and isinstance(node.ctx, ast.Load), name)
+
+    def test_no_file_needs_itself(self):
+        needs = {name[:-3]: {node.module.split(".")[1] for node in tree.body if isinstance(node, ast.ImportFrom)
+                             and node.module not in LIBRARY} for name, tree in TREES.items()}
+        while needs:
+            free = {name for name in needs if not needs[name]}
+            self.assertTrue(free, needs)
+            needs = {name: more - free for name, more in needs.items() if name not in free}
+
+    def test_no_generators_and_no_sort_in_place(self):
+        self.assertEqual(self.each((ast.GeneratorExp, ast.Yield, ast.YieldFrom, ast.NamedExpr, ast.Global)), [])
+        for place, node in self.each(ast.Attribute):
+            self.assertNotEqual(node.attr, "sort", place)
+
+    def test_is_stands_with_none_true_or_false_alone(self):
+        for place, node in self.each(ast.Compare):
+            for sign, side in zip(node.ops, node.comparators):
+                if isinstance(sign, (ast.Is, ast.IsNot)):
+                    self.assertTrue(isinstance(side, ast.Constant) and side.value in (None, True, False), place)
+
+    def test_one_lambda_to_a_line(self):
+        places = [place for place, _ in self.each(ast.Lambda)]
+        self.assertEqual(len(places), len(set(places)))
+
+    def test_sets_stand_in_sorted_or_len_alone(self):
+        held = [id(node.args[0]) for _, node in NODES if isinstance(node, ast.Call) and node.args
+                and isinstance(node.func, ast.Name) and node.func.id in ("sorted", "len") and not node.keywords]
+        for place, node in self.each((ast.Set, ast.SetComp)):
+            self.assertIn(id(node), held, place)
+        for place, node in self.each(ast.Call):
+            if isinstance(node.func, ast.Name) and node.func.id in ("set", "frozenset"):
+                self.assertIn(id(node), held, place)
+
+    def test_views_and_zips_are_gone_over_at_once(self):
+        kinds = (ast.For, ast.comprehension)
+        held = [id(node.iter) for _, node in NODES if isinstance(node, kinds)]
+        held += [id(node.args[0]) for _, node in NODES if isinstance(node, ast.Call) and node.args
+                 and isinstance(node.func, ast.Name) and node.func.id in ("list", "tuple", "sorted", "sum", "dict")]
+        for place, node in self.each(ast.Call):
+            word = getattr(node.func, "attr", getattr(node.func, "id", None))
+            if word in ("zip", "enumerate", "range", "reversed", "items", "values", "keys", "map"):
+                self.assertIn(id(node), held, place)
+
+    def test_no_name_is_a_method_and_an_attribute(self):
+        methods = {node.name for _, one in NODES if isinstance(one, ast.ClassDef) for node in one.body
+                   if isinstance(node, ast.FunctionDef)}
+        attributes = {node.attr for _, node in NODES if isinstance(node, ast.Attribute)
+                      and isinstance(node.ctx, ast.Store)}
+        self.assertEqual(methods & attributes, set())
+
+    def test_double_underscores(self):
+        for place, node in self.each(ast.FunctionDef):
+            if node.name.startswith("__"):
+                self.assertIn(node.name, ("__init__", "__len__", "__eq__"), place)
+            if node.name in ("__len__", "__eq__"):
+                self.assertEqual([type(one) for one in node.body], [ast.Return], place)
 
     def test_methods(self):
         for place, node in self.each(ast.Call):

@@ -1,4 +1,6 @@
-"""What several tests need: tables, and things of other kinds."""
+"""What several tests need: tables, plans, rows, and things of other kinds."""
+
+import random
 
 
 class Likes:
@@ -29,3 +31,37 @@ def visits_and_stays():
         ("stay", (("guest", "person", None), ("night", "number", 0)), "part"),
         ("mark", (("grade", "number", None),), "row"),
     )
+
+
+def standing(name, *rows):
+    """A list of (thread, row), as a table has them: the keys are numbered from 0."""
+    return [((name, ("s", number)), row) for number, row in enumerate(rows)]
+
+
+def thread(name, *threads):
+    """The thread of a derived row."""
+    return (name, threads)
+
+
+# Names of each deriving, up to three derivings away, of the tables visit and stay.
+MANY_NAMES = (
+    ("a", ("more", "visit", "d", "day", "less", "cost")),
+    ("b", ("window", "a", ("who",), "d", 3, "d")),
+    ("c", ("outer", "visit", "stay", "who", "guest")),
+    ("d", ("group", "c", ("day", "who"), "least", "night")),
+    ("e", ("join", "b", "stay", "who", "guest")),
+    ("f", ("first", "c", ("who",), "night")),
+    ("g", ("keep", "c", "night", "least", 2)),
+    ("h", ("both", "g", "c")),
+    ("i", ("group", "b", (), "most", "window")),
+)
+
+
+def some_stands(seed):
+    """Stands with rows of any cells."""
+    chance = random.Random(seed)
+    persons = ["ann", "bob", "cid", None]
+    cells = [None, 0, 1, 2, 5, 9]
+    visits = [(chance.choice(persons), chance.choice(cells), chance.choice(cells)) for _ in range(chance.randint(0, 7))]
+    stays = [(chance.choice(persons), chance.choice(cells)) for _ in range(chance.randint(0, 4))]
+    return {"visit": standing("visit", *visits), "stay": standing("stay", *stays), "mark": []}

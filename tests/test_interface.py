@@ -1,0 +1,43 @@
+"""The interface's names, where they are defined, and their arguments, as the document writes them."""
+
+import importlib
+import inspect
+import unittest
+
+FUNCTIONS = {
+    "names": ["is_name(thing)", "is_worth(thing)", "is_moment(thing)"],
+    "tables": ["are_tables(thing)", "is_row(table, thing)", "read_row(table, row)", "persons_of(row)"],
+    "plans": ["look_at_plan(tables, plan)", "columns_of(tables, plan, name)"],
+    "deriving": ["derived(tables, plan, stands)", "keys_of(thread)"],
+    "threads": ["lets_derived(tables, plan, stands, thing)", "turned(one, other)", "hanging(derived, key)",
+                "without_key(tables, plan, stands, key)"],
+}
+CLASSES = {}
+
+
+class Interface(unittest.TestCase):
+    def test_functions(self):
+        for module, told in FUNCTIONS.items():
+            there = importlib.import_module(f"asnevertold.{module}")
+            for text in told:
+                found = getattr(there, text.split("(")[0])
+                self.assertTrue(inspect.isfunction(found), text)
+                self.assertEqual(found.__module__, there.__name__)
+                self.assertEqual(found.__name__ + str(inspect.signature(found)), text)
+
+    def test_classes_and_their_own_methods(self):
+        for module, classes in CLASSES.items():
+            there = importlib.import_module(f"asnevertold.{module}")
+            for name, (made, methods) in classes.items():
+                found = getattr(there, name)
+                self.assertTrue(inspect.isclass(found), name)
+                self.assertEqual(found.__module__, there.__name__)
+                self.assertEqual(str(inspect.signature(found)), made)
+                for text in methods:
+                    method = vars(found)[text.split("(")[0]]
+                    self.assertTrue(inspect.isfunction(method), text)
+                    self.assertEqual(method.__name__ + str(inspect.signature(method)), text)
+
+
+if __name__ == "__main__":
+    unittest.main()
