@@ -11,8 +11,18 @@ FUNCTIONS = {
     "deriving": ["derived(tables, plan, stands)", "keys_of(thread)"],
     "threads": ["lets_derived(tables, plan, stands, thing)", "turned(one, other)", "hanging(derived, key)",
                 "without_key(tables, plan, stands, key)"],
+    "models": ["is_model(columns, thing)", "learn(columns, rows, model)", "turns(model, one, other)"],
+    "texts": ["show_rows(rows)", "show_entries(entries)", "show_permits(permits)", "read_entries(text)",
+              "read_permits(text)"],
 }
-CLASSES = {}
+CLASSES = {
+    "history": {"History": ("(tables)", [
+        "put(self, entry)", "tables(self)", "entries(self)", "entry(self, key)",
+        "rows_at(self, name, so, *, known=None)", "stands(self, so, *, known=None)", "without(self, persons)",
+        "gone(self, persons)", "lacking(self, persons)", "twin(self)", "__len__(self)", "__eq__(self, other)"])},
+    "learnt": {"Learnt": ("(columns, model)", [
+        "come(self, rows)", "go(self, rows)", "told(self)", "twin(self)", "__len__(self)"])},
+}
 
 
 class Interface(unittest.TestCase):

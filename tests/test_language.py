@@ -111,6 +111,16 @@ class Language(unittest.TestCase):
                     else:
                         self.assertIsInstance(node, (ast.FunctionDef, ast.ClassDef, ast.ImportFrom))
 
+    def test_tables_of_functions_hold_those_defined_above(self):
+        for name, tree in TREES.items():
+            above = set()
+            for node in tree.body:
+                if isinstance(node, ast.FunctionDef):
+                    above.add(node.name)
+                if isinstance(node, ast.Assign):
+                    held = {one.id for one in ast.walk(node.value) if isinstance(one, ast.Name)}
+                    self.assertLessEqual(held, above, f"{name}, line {node.lineno}")
+
     def test_barred_parts(self):
         self.assertEqual(self.each(BARRED), [])
         for place, node in self.each((ast.BinOp, ast.AugAssign)):

@@ -65,3 +65,35 @@ def some_stands(seed):
     visits = [(chance.choice(persons), chance.choice(cells), chance.choice(cells)) for _ in range(chance.randint(0, 7))]
     stays = [(chance.choice(persons), chance.choice(cells)) for _ in range(chance.randint(0, 4))]
     return {"visit": standing("visit", *visits), "stay": standing("stay", *stays), "mark": []}
+
+
+def some_entries(seed, many=12):
+    """Entries of the tables visit, stay and mark with rights and causes in chains; all are let in, one by one."""
+    chance = random.Random(seed)
+    persons = ["ann", "bob", "cid", None]
+    made, known, righted = [], 0, []
+    for number in range(many):
+        name = chance.choice(["visit", "stay", "stay", "mark"])
+        known += chance.choice([0, 0, 1, 2])
+        row = {
+            "visit": (chance.choice(persons), chance.randint(0, 9), chance.choice([None, 3])),
+            "stay": (chance.choice(persons), chance.choice(persons), chance.randint(0, 9)),
+            "mark": (chance.randint(0, 9),),
+        }[name][:chance.randint(1, 3)]
+        since = chance.randint(0, 9)
+        till = chance.choice([None, None, since + chance.randint(1, 5)])
+        open_ones = [entry[0] for entry in made if entry[1] == name and entry[0] not in righted]
+        rights = chance.choice(open_ones) if open_ones and chance.random() < 0.4 else None
+        cause = chance.choice(made)[0] if made and chance.random() < 0.2 else None
+        if rights is not None and chance.random() < 0.2:
+            row = None
+        righted.append(rights)
+        made.append(((chance.choice(["a", "b"]), number), name, row, since, till, known, rights, cause))
+    return made
+
+
+def two_to_a_stay():
+    """The three tables, but a stay is one of two persons, and goes by its part."""
+    visit, _, mark = visits_and_stays()
+    stay = ("stay", (("guest", "person", None), ("host", "person", None), ("night", "number", 4)), "part")
+    return (visit, stay, mark)
