@@ -1,11 +1,11 @@
 """What a plan derives from tables as they stand, and the keys that a thread holds."""
 
-from asnevertold.steps import all_lists
+from asnevertold.frame import Frame
 
 
 def derived(tables, plan, stands):
     """A dict from all names, the tables' and the plan's, to their lists of tuples (thread, row)."""
-    return all_lists(tables, plan, stands)
+    return Frame(tables, plan).lists(stands)
 
 
 def is_of_table(thread):

@@ -1,6 +1,7 @@
 """The history: entries as they were let in, and what they tell at a moment, as known at one."""
 
-from asnevertold.errors import NoEntry, NoKey, NoMoment, NoPerson, NoTable, NoTables
+from asnevertold.errors import NoEntry, NoKey, NoPerson, NoTable, NoTables
+from asnevertold.moments import look_at_moments
 from asnevertold.names import are_names, is_key, is_moment, is_name, is_span
 from asnevertold.tables import are_tables, is_row, persons_of, read_row
 
@@ -29,14 +30,6 @@ def row_without(row, persons):
     """The row with None for the persons' cells."""
     # No number is ever a name, so it is enough to look whether the cell is among them.
     return tuple([None if cell in persons else cell for cell in row])
-
-
-def look_at_moments(so, known):
-    """NoMoment of what is none: of so ahead of known, which may be None."""
-    if not is_moment(so):
-        raise NoMoment(so)
-    if known is not None and not is_moment(known):
-        raise NoMoment(known)
 
 
 class History:

@@ -205,9 +205,14 @@ def look_at_plan(tables, plan):
     known_columns(tables, plan)
 
 
+def look_at_name(known, name):
+    """NoTable of anything that is no name of a table or of the plan."""
+    if not is_name(name) or name not in known:
+        raise NoTable(name)
+
+
 def columns_of(tables, plan, name):
     """The columns, tuples (name, kind), of a table or of a name of the plan."""
     known = known_columns(tables, plan)
-    if not is_name(name) or name not in known:
-        raise NoTable(name)
+    look_at_name(known, name)
     return list(known[name])

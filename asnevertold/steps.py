@@ -1,27 +1,21 @@
 """One deriving at a time: the rows that each makes of those of its sources.
 
-Known is a dict from names to their columns, as plans tells them, lists one from names to lists of tuples
-(thread, row), sorted by thread. Of each deriving a function makes a list of tuples (threads, row), in any
+Places is a dict from names to dicts from their columns to the columns' places, lists one from names to lists of
+tuples (thread, row), sorted by thread. Of each deriving a function makes a list of tuples (threads, row), in any
 order, threads those of the rows that it came of.
 """
 
-from asnevertold.plans import known_columns, place_of
 
-
-def is_kept(word, cell, told):
-    """Whether a keep by this word and told cell keeps a row with this cell."""
-    if word == "is":
-        return cell == told
-    if cell is None:
-        return False
-    return cell >= told if word == "least" else cell <= told
-
-
-def keep_rows(known, lists, deriving):
+def keep_rows(places, lists, deriving):
     """The rows that a keep makes."""
     source, column, word, told = deriving[1:]
-    place = place_of(known[source], column)
-    return [((thread,), row) for thread, row in lists[source] if is_kept(word, row[place], told)]
+    place = places[source][column]
+    if word == "is":
+        return [((thread,), row) for thread, row in lists[source] if row[place] == told]
+    there = [(thread, row) for thread, row in lists[source] if row[place] is not None]
+    if word == "least":
+        return [((thread,), row) for thread, row in there if row[place] >= told]
+    return [((thread,), row) for thread, row in there if row[place] <= told]
 
 
 def reckoned(one, word, other):
@@ -31,11 +25,11 @@ def reckoned(one, word, other):
     return one + other if word == "plus" else one - other
 
 
-def more_rows(known, lists, deriving):
+def more_rows(places, lists, deriving):
     """The rows that a more makes."""
     source, _, column, word, other = deriving[1:]
-    place = place_of(known[source], column)
-    away = place_of(known[source], other)
+    place = places[source][column]
+    away = places[source][other]
     return [((thread,), (*row, reckoned(row[place], word, row[away]))) for thread, row in lists[source]]
 
 
@@ -48,11 +42,11 @@ def rows_by_cell(rows, place):
     return told
 
 
-def join_rows(known, lists, deriving):
+def join_rows(places, lists, deriving):
     """The rows that a join makes."""
     one, other, column, more = deriving[1:]
-    place = place_of(known[one], column)
-    matches = rows_by_cell(lists[other], place_of(known[other], more))
+    place = places[one][column]
+    matches = rows_by_cell(lists[other], places[other][more])
     made = []
     for thread, row in lists[one]:
         for beside, cells in matches.get(row[place], []):
@@ -60,22 +54,22 @@ def join_rows(known, lists, deriving):
     return made
 
 
-def outer_rows(known, lists, deriving):
+def outer_rows(places, lists, deriving):
     """The rows that an outer makes."""
     one, other = deriving[1:3]
-    made = join_rows(known, lists, deriving)
+    made = join_rows(places, lists, deriving)
     matched = {threads[0]: True for threads, row in made}
-    nones = (None,) * (len(known[other]) - 1)
+    nones = (None,) * (len(places[other]) - 1)
     alone = [((thread,), row + nones) for thread, row in lists[one] if thread not in matched]
     return made + alone
 
 
-def lots_of(columns, rows, by):
-    """The rows by lots: a dict from the cells in the columns of by to lists of rows."""
-    places = [place_of(columns, name) for name in by]
+def lots_of(places, rows, by):
+    """The rows by lots: a dict from the cells in the columns of by, whose places are told, to lists of rows."""
+    there = [places[name] for name in by]
     lots = {}
     for thread, row in rows:
-        cells = tuple([row[place] for place in places])
+        cells = tuple([row[place] for place in there])
         lots.setdefault(cells, []).append((thread, row))
     return lots
 
@@ -85,24 +79,24 @@ def cells_there(lot, place):
     return [row[place] for thread, row in lot if row[place] is not None]
 
 
-def counted(columns, lot, word, column):
-    """What a group's word tells of the lot."""
+def counted(lot, word, place):
+    """What a group's word tells of the lot, by the cells at the place, which is None where they don't matter."""
     if word == "many":
         return len(lot)
-    cells = cells_there(lot, place_of(columns, column))
+    cells = cells_there(lot, place)
     if word == "sum":
         return sum(cells)
     return min(cells, default=None) if word == "least" else max(cells, default=None)
 
 
-def group_rows(known, lists, deriving):
+def group_rows(places, lists, deriving):
     """The rows that a group makes."""
     source, by, word, column = deriving[1:]
-    columns = known[source]
+    place = None if column is None else places[source][column]
     made = []
-    for cells, lot in lots_of(columns, lists[source], by).items():
+    for cells, lot in lots_of(places[source], lists[source], by).items():
         threads = tuple(sorted([thread for thread, row in lot]))
-        made.append((threads, (*cells, counted(columns, lot, word, column))))
+        made.append((threads, (*cells, counted(lot, word, place))))
     return made
 
 
@@ -118,32 +112,32 @@ def in_order(lot, place):
     return [(thread, row) for rank, thread, row in sorted(ranked)]
 
 
-def window_rows(known, lists, deriving):
+def window_rows(places, lists, deriving):
     """The rows that a window makes."""
     source, by, order, many, column = deriving[1:]
-    columns = known[source]
+    sorted_by, place = places[source][order], places[source][column]
     made = []
-    for lot in list(lots_of(columns, lists[source], by).values()):
-        ordered = in_order(lot, place_of(columns, order))
+    for lot in list(lots_of(places[source], lists[source], by).values()):
+        ordered = in_order(lot, sorted_by)
         for at, (_, row) in enumerate(ordered):
             seen = ordered[max(0, at + 1 - many):at + 1]
             threads = tuple([thread for thread, cells in seen[::-1]])
-            made.append((threads, (*row, sum(cells_there(seen, place_of(columns, column))))))
+            made.append((threads, (*row, sum(cells_there(seen, place)))))
     return made
 
 
-def first_rows(known, lists, deriving):
+def first_rows(places, lists, deriving):
     """The rows that a first makes."""
     source, by, order = deriving[1:]
-    columns = known[source]
+    sorted_by = places[source][order]
     made = []
-    for lot in list(lots_of(columns, lists[source], by).values()):
-        thread, row = in_order(lot, place_of(columns, order))[0]
+    for lot in list(lots_of(places[source], lists[source], by).values()):
+        thread, row = in_order(lot, sorted_by)[0]
         made.append(((thread,), row))
     return made
 
 
-def both_rows(known, lists, deriving):
+def both_rows(places, lists, deriving):
     """The rows that a both makes."""
     one, other = deriving[1:]
     return [((thread,), row) for thread, row in lists[one] + lists[other]]
@@ -161,17 +155,8 @@ MAKERS = {
 }
 
 
-def made_rows(known, lists, name, deriving):
+def made_rows(places, lists, name, deriving):
     """The list of the name by its deriving: tuples (thread, row), sorted by thread."""
     maker = MAKERS[deriving[0]]
-    made = [((name, threads), row) for threads, row in maker(known, lists, deriving)]
-    return sorted(made, key=lambda pair: pair[0])
-
-
-def all_lists(tables, plan, stands):
-    """The lists of all names, those of the tables as they stand."""
-    known = known_columns(tables, plan)
-    lists = {table[0]: list(stands[table[0]]) for table in tables}
-    for name, deriving in plan:
-        lists[name] = made_rows(known, lists, name, deriving)
-    return lists
+    # No two threads are alike, so rows, whose cells may be of unlike kinds, are never compared.
+    return sorted([((name, threads), row) for threads, row in maker(places, lists, deriving)])

@@ -2,9 +2,9 @@
 
 from asnevertold.alike import is_just
 from asnevertold.deriving import keys_of
+from asnevertold.frame import Frame
 from asnevertold.names import is_key, is_one_of
-from asnevertold.plans import known_columns
-from asnevertold.steps import all_lists, made_rows
+from asnevertold.steps import made_rows
 
 
 def has_names(known, thing):
@@ -14,19 +14,23 @@ def has_names(known, thing):
     return all([is_one_of(list(known), name) for name in thing])
 
 
-def lets_derived(tables, plan, stands, thing):
+def judged(frame, stands, thing):
     """Whether thing, anything, is what is derived, by one deriving at a time from what stands in it."""
-    known = known_columns(tables, plan)
-    if not has_names(known, thing):
+    if not has_names(frame.columns, thing):
         return False
-    for table in tables:
+    for table in frame.base:
         if not is_just(stands[table[0]], thing[table[0]]):
             return False
-    for name, deriving in plan:
+    for name, deriving in frame.plan:
         # Its sources stand ahead of it and were let by, so nothing is derived from what is no rows.
-        if not is_just(made_rows(known, thing, name, deriving), thing[name]):
+        if not is_just(made_rows(frame.places, thing, name, deriving), thing[name]):
             return False
     return True
+
+
+def lets_derived(tables, plan, stands, thing):
+    """Whether thing, anything, is what is derived of tables by a plan as the tables stand."""
+    return judged(Frame(tables, plan), stands, thing)
 
 
 def rows_not_in(rows, others):
@@ -40,6 +44,8 @@ def turned(one, other):
     """What turns between two deriveds of one plan: a dict from names to tuples (goes, comes)."""
     told = {}
     for name in sorted(one):
+        if one[name] == other[name]:
+            continue
         goes = rows_not_in(one[name], other[name])
         comes = rows_not_in(other[name], one[name])
         if goes or comes:
@@ -61,6 +67,7 @@ def without_key(tables, plan, stands, key):
     """What turns where the table's row of the key is left out."""
     if not is_key(key):
         return {}
-    whole = all_lists(tables, plan, stands)
+    frame = Frame(tables, plan)
+    whole = frame.lists(stands)
     left = {table[0]: [pair for pair in whole[table[0]] if pair[0][1] != key] for table in tables}
-    return turned(whole, all_lists(tables, plan, left))
+    return turned(whole, frame.relisted(whole, left, plan))

@@ -12,6 +12,8 @@ FUNCTIONS = {
     "threads": ["lets_derived(tables, plan, stands, thing)", "turned(one, other)", "hanging(derived, key)",
                 "without_key(tables, plan, stands, key)"],
     "models": ["is_model(columns, thing)", "learn(columns, rows, model)", "turns(model, one, other)"],
+    "weights": ["weights(tables, plan, derived, name, column)"],
+    "combining": ["lets_combination(weights, persons, fewest, thing)", "combination(weights, persons, fewest)"],
     "texts": ["show_rows(rows)", "show_entries(entries)", "show_permits(permits)", "read_entries(text)",
               "read_permits(text)"],
 }
@@ -20,6 +22,10 @@ CLASSES = {
         "put(self, entry)", "tables(self)", "entries(self)", "entry(self, key)",
         "rows_at(self, name, so, *, known=None)", "stands(self, so, *, known=None)", "without(self, persons)",
         "gone(self, persons)", "lacking(self, persons)", "twin(self)", "__len__(self)", "__eq__(self, other)"])},
+    "permits": {"Book": ("()", [
+        "put(self, permission)", "permits(self)", "allows(self, person, purpose, so, *, known=None)",
+        "lets_row(self, row, purpose, so, *, known=None)", "without(self, persons)", "twin(self)", "__len__(self)",
+        "__eq__(self, other)"])},
     "learnt": {"Learnt": ("(columns, model)", [
         "come(self, rows)", "go(self, rows)", "told(self)", "twin(self)", "__len__(self)"])},
 }
