@@ -1,5 +1,7 @@
 """Tables with a plan, looked at once, and the lists of all their names."""
 
+from asnevertold.errors import NoColumn
+from asnevertold.names import is_name
 from asnevertold.plans import known_columns, sources_of
 from asnevertold.steps import made_rows
 
@@ -15,6 +17,19 @@ class Frame:
         self.places = {}
         for name, columns in self.columns.items():
             self.places[name] = {column[0]: place for place, column in enumerate(columns)}
+
+    def place_of(self, name, column):
+        """The place of a column of the name; NoColumn of anything that is none."""
+        if not is_name(column) or column not in self.places[name]:
+            raise NoColumn(column)
+        return self.places[name][column]
+
+    def list_of(self, name, stands):
+        """The list of one name alone."""
+        told = {table[0]: stands[table[0]] for table in self.base}
+        for step, deriving in self.steps_to([name]):
+            told[step] = made_rows(self.places, told, step, deriving)
+        return list(told[name])
 
     def lists(self, stands):
         """The lists of all names, those of the tables as they stand."""

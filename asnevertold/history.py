@@ -1,9 +1,9 @@
 """The history: entries as they were let in, and what they tell at a moment, as known at one."""
 
 from asnevertold.errors import NoEntry, NoKey, NoPerson, NoTable, NoTables
-from asnevertold.moments import look_at_moments
-from asnevertold.names import are_names, is_key, is_moment, is_name, is_span
-from asnevertold.tables import are_tables, is_row, persons_of, read_row
+from asnevertold.moments import END, look_at_moments
+from asnevertold.names import LAST_MOMENT, are_names, is_key, is_moment, is_span
+from asnevertold.tables import are_tables, has_persons, is_row, persons_of, read_row
 
 ENTRY_LONG = 8
 
@@ -12,24 +12,33 @@ def has_form(thing):
     """Whether thing has the form of an entry; its table, its row, rights and cause are looked at apart."""
     if not isinstance(thing, tuple) or len(thing) != ENTRY_LONG:
         return False
-    key, table, row, since, till, known, rights, cause = thing
-    if not is_key(key) or not is_span(since, till) or not is_moment(known):
+    key, _, row, since, till, known, rights, _ = thing
+    if row is None and rights is None:
         return False
-    return row is not None or rights is not None
+    return is_key(key) and is_span(since, till) and is_moment(known)
 
 
-def goes_with(rule, row, persons):
-    """Whether a row goes with the persons by its table's rule."""
-    theirs = [person in persons for person in persons_of(row)]
-    if rule == "row":
-        return any(theirs)
-    return theirs != [] and all(theirs)
+def is_in(row, persons):
+    """Whether one of the persons is in the row."""
+    for person in persons:
+        if person in row:
+            return True
+    return False
 
 
 def row_without(row, persons):
     """The row with None for the persons' cells."""
     # No number is ever a name, so it is enough to look whether the cell is among them.
     return tuple([None if cell in persons else cell for cell in row])
+
+
+def put_in_order(rows, item):
+    """Put the item, which begins with its thread, where the rows stay sorted by their threads."""
+    place = len(rows)
+    # Keys mostly rise while rows are told, so the place is looked for from the end.
+    while place > 0 and rows[place - 1][0] > item[0]:
+        place -= 1
+    rows.insert(place, item)
 
 
 class History:
@@ -39,9 +48,13 @@ class History:
         if not are_tables(tables):
             raise NoTables()
         self._tables = tables
+        self._by_name = {table[0]: table for table in tables}
         self._entries = []
         self._by_key = {}
+        # By each key that was put right: from when on this is known.
         self._righted = {}
+        # Of each table what may stand, sorted by thread: tuples (thread, read row, key, since, till, known).
+        self._rows = {name: [] for name in self._by_name}
 
     def __len__(self):
         return len(self._entries)
@@ -51,13 +64,10 @@ class History:
 
     def put(self, entry):
         """Let the entry in, or refuse it with NoEntry."""
-        word = self._amiss(entry)
+        word = self.amiss(entry, self._entries[-1][5] if self._entries else 0)
         if word is not None:
             raise NoEntry(word)
-        self._entries.append(entry)
-        self._by_key[entry[0]] = entry
-        if entry[6] is not None:
-            self._righted[entry[6]] = True
+        self.let_in(entry)
 
     def tables(self):
         """The tables that it was made of."""
@@ -75,68 +85,79 @@ class History:
 
     def rows_at(self, name, so, *, known=None):
         """The table's rows so at a moment, as known at another: a list of tuples (thread, row)."""
-        table = self._table(name)
-        if table is None:
+        if not isinstance(name, str) or name not in self._by_name:
             raise NoTable(name)
         look_at_moments(so, known)
-        return self._standing(table, so, known)
+        return self._standing(name, so, LAST_MOMENT if known is None else known)
 
     def stands(self, so, *, known=None):
         """Each table's rows so at a moment, as known at another."""
         look_at_moments(so, known)
-        return {table[0]: self._standing(table, so, known) for table in self._tables}
+        latest = LAST_MOMENT if known is None else known
+        return {name: self._standing(name, so, latest) for name in self._by_name}
 
     def without(self, persons):
         """A History of its own that was told all but what goes with the persons."""
-        stay, _, _ = self._parted(persons)
-        return self._made_of(stay)
+        stay, _, _ = self.parted(persons)
+        return self.with_entries(stay)
 
     def gone(self, persons):
         """The keys of the entries that go with the persons."""
-        _, gone, _ = self._parted(persons)
+        _, gone, _ = self.parted(persons)
         return gone
 
     def lacking(self, persons):
         """The keys of the entries that stay, and whose rows lack the persons then."""
-        _, _, lacking = self._parted(persons)
+        _, _, lacking = self.parted(persons)
         return lacking
 
     def twin(self):
         """A History alike, which goes on by itself."""
-        return self._made_of(self._entries)
-
-    def _made_of(self, entries):
-        """A History of the same tables with these entries, which fit one another."""
         made = History(self._tables)
-        for entry in list(entries):
-            made.put(entry)
+        made._entries = list(self._entries)
+        made._by_key = {key: entry for key, entry in self._by_key.items()}
+        made._righted = {key: known for key, known in self._righted.items()}
+        made._rows = {name: list(rows) for name, rows in self._rows.items()}
         return made
 
-    def _table(self, name):
-        """The table that is called so, None of anything else."""
-        if is_name(name):
-            for table in self._tables:
-                if table[0] == name:
-                    return table
-        return None
+    def let_in(self, entry):
+        """Let in an entry that fits those that there are."""
+        key, name, row, since, till, known, rights, _ = entry
+        self._entries.append(entry)
+        self._by_key[key] = entry
+        if rights is not None:
+            self._righted[rights] = known
+        if row is not None:
+            cells = read_row(self._by_name[name], row)
+            put_in_order(self._rows[name], ((name, key), cells, key, since, END if till is None else till, known))
 
-    def _has_key(self, thing):
-        """Whether an entry has the key; of anything that is no key none has."""
-        return is_key(thing) and thing in self._by_key
+    def with_entries(self, entries):
+        """A History of the same tables with other entries, which fit one another."""
+        made = History(self._tables)
+        for entry in entries:
+            made.let_in(entry)
+        return made
 
-    def _amiss(self, thing):
-        """The word of what is amiss first where thing is to be let in as an entry, or None."""
+    def last_known(self):
+        """The known moment of the last entry, 0 of none."""
+        return self._entries[-1][5] if self._entries else 0
+
+    def persons_by_key(self):
+        """The persons of each entry's row: a dict from the keys to sorted tuples."""
+        return {entry[0]: persons_of(entry[2] or ()) for entry in self._entries}
+
+    def amiss(self, thing, least):
+        """The word of what is amiss first where thing is to be let in, known from least on, or None."""
         if not has_form(thing):
             return "form"
         key, name, row, _, _, known, rights, cause = thing
-        table = self._table(name)
-        if table is None:
+        if not isinstance(name, str) or name not in self._by_name:
             return "table"
-        if row is not None and not is_row(table, row):
+        if row is not None and not is_row(self._by_name[name], row):
             return "row"
-        if self._has_key(key):
+        if key in self._by_key:
             return "key"
-        if self._entries and known < self._entries[-1][5]:
+        if known < least:
             return "known"
         if rights is not None and not self._may_right(name, rights):
             return "rights"
@@ -144,33 +165,39 @@ class History:
             return "cause"
         return None
 
+    def parted(self, persons):
+        """The entries that stay, as they are then, the keys of those that go and of those that lack something."""
+        if not are_names(persons):
+            raise NoPerson(persons)
+        stay, gone, lacking = [], {}, []
+        for entry in self._entries:
+            key, name, row, _, _, _, rights, cause = entry
+            if rights in gone or cause in gone:
+                gone[key] = True
+            elif row is None or not is_in(row, persons):
+                stay.append(entry)
+            else:
+                left = row_without(row, persons)
+                # By rule part the row stays where somebody is left in it.
+                if self._by_name[name][2] == "row" or not has_persons(left):
+                    gone[key] = True
+                else:
+                    lacking.append(key)
+                    stay.append((key, name, left, *entry[3:]))
+        return stay, list(gone), lacking
+
+    def _has_key(self, thing):
+        """Whether an entry has the key; of anything that is no key none has."""
+        return is_key(thing) and thing in self._by_key
+
     def _may_right(self, name, rights):
         """Whether an entry of this table may still be put right by its key rights."""
         return self._has_key(rights) and self._by_key[rights][1] == name and rights not in self._righted
 
-    def _standing(self, table, so, known):
-        """The table's rows, read, that stand so at the moment as known at the other."""
-        told = [entry for entry in self._entries if known is None or entry[5] <= known]
-        righted = {entry[6]: True for entry in told}
-        rows = []
-        for key, name, row, since, till, _, _, _ in told:
-            stands = since <= so and (till is None or till > so)
-            if name == table[0] and stands and row is not None and key not in righted:
-                rows.append(((name, key), read_row(table, row)))
-        return sorted(rows, key=lambda pair: pair[0])
-
-    def _parted(self, persons):
-        """The entries that stay, as they are then, the keys of those that go and of those that lack something."""
-        if not are_names(persons):
-            raise NoPerson(persons)
-        stay, gone, lacking = [], [], []
-        for key, name, row, since, till, known, rights, cause in self._entries:
-            rule = self._table(name)[2]
-            if rights in gone or cause in gone or goes_with(rule, row or (), persons):
-                gone.append(key)
-                continue
-            left = None if row is None else row_without(row, persons)
-            if left != row:
-                lacking.append(key)
-            stay.append((key, name, left, since, till, known, rights, cause))
-        return stay, gone, lacking
+    def _standing(self, name, so, latest):
+        """The table's rows, read, that stand so at the moment, as known at the latest."""
+        righted = self._righted
+        return [
+            (thread, cells) for thread, cells, key, since, till, known in self._rows[name]
+            if since <= so < till and known <= latest and (key not in righted or righted[key] > latest)
+        ]

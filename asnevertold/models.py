@@ -79,6 +79,11 @@ def learn(columns, rows, model):
     """What is learnt by the model of the rows."""
     if not is_model(columns, model):
         raise NoModel()
+    return learnt_of(columns, rows, model)
+
+
+def learnt_of(columns, rows, model):
+    """What is learnt of the rows by what was looked at and is a model of these columns."""
     if model[0] == "shares":
         return learn_shares(columns, rows, model)
     if model[0] == "pairs":

@@ -1,6 +1,5 @@
 """The least things: whole numbers, names, worths, moments and keys, known from anything else."""
 
-LETTERS = "abcdefghijklmnopqrstuvwxyz"
 LONGEST_NAME = 8
 LAST_WORTH = 9
 LAST_MOMENT = 999
@@ -14,24 +13,25 @@ def is_whole(thing):
 
 def is_whole_within(thing, least, most):
     """Whether thing is a whole number from least to most."""
-    return is_whole(thing) and least <= thing <= most
+    return isinstance(thing, int) and not isinstance(thing, bool) and least <= thing <= most
 
 
 def is_name(thing):
     """Whether thing is a name: a text of one to eight small letters."""
-    if not isinstance(thing, str) or not 1 <= len(thing) <= LONGEST_NAME:
+    if not isinstance(thing, str) or len(thing) > LONGEST_NAME:
         return False
-    return all([sign in LETTERS for sign in thing])
+    # The empty text has no letters at all, so it is none of these either.
+    return thing.isalpha() and thing.islower() and thing.isascii()
 
 
 def is_worth(thing):
     """Whether thing is a worth: a whole number from 0 to 9."""
-    return is_whole_within(thing, 0, LAST_WORTH)
+    return isinstance(thing, int) and not isinstance(thing, bool) and 0 <= thing <= LAST_WORTH
 
 
 def is_moment(thing):
     """Whether thing is a moment: a whole number from 0 to 999."""
-    return is_whole_within(thing, 0, LAST_MOMENT)
+    return isinstance(thing, int) and not isinstance(thing, bool) and 0 <= thing <= LAST_MOMENT
 
 
 def is_span(since, till):
@@ -43,7 +43,10 @@ def is_key(thing):
     """Whether thing is a key of an entry: a tuple (source, number)."""
     if not isinstance(thing, tuple) or len(thing) != 2:
         return False
-    return is_name(thing[0]) and is_whole_within(thing[1], 0, LAST_NUMBER)
+    source, number = thing
+    if not isinstance(number, int) or isinstance(number, bool) or not 0 <= number <= LAST_NUMBER:
+        return False
+    return is_name(source)
 
 
 def are_names(thing):

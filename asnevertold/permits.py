@@ -36,7 +36,7 @@ class Book:
         word = self.amiss(permission, self.last_known())
         if word is not None:
             raise NoPermission(word)
-        self._permits.append(permission)
+        self.let_in(permission)
 
     def permits(self):
         """The permissions, in order."""
@@ -62,6 +62,10 @@ class Book:
     def twin(self):
         """A Book alike, which goes on by itself."""
         return self._made_of(self._permits)
+
+    def let_in(self, permission):
+        """Let in a permission that fits those that there are."""
+        self._permits.append(permission)
 
     def last_known(self):
         """The known moment of the last permission, 0 of none."""

@@ -1,10 +1,9 @@
 """Tables: what they are, their rows, and the persons in a row."""
 
-from asnevertold.names import are_unlike, is_name, is_one_of, is_worth
+from asnevertold.names import are_unlike, is_name, is_worth
 
 MOST_TABLES = 6
 MOST_COLUMNS = 6
-KINDS = ("person", "number")
 RULES = ("row", "part")
 
 
@@ -13,16 +12,21 @@ def is_column(thing):
     if not isinstance(thing, tuple) or len(thing) != 3:
         return False
     name, kind, default = thing
-    if not is_name(name) or not is_one_of(KINDS, kind):
+    if not is_name(name) or not isinstance(kind, str):
         return False
-    return default is None or (kind == "number" and is_worth(default))
+    if kind == "number":
+        return default is None or is_worth(default)
+    return kind == "person" and default is None
 
 
 def are_columns(thing):
     """Whether thing is a tuple of one to six columns, called unlike."""
     if not isinstance(thing, tuple) or not 1 <= len(thing) <= MOST_COLUMNS:
         return False
-    return all([is_column(column) for column in thing]) and are_unlike(thing)
+    for column in thing:
+        if not is_column(column):
+            return False
+    return are_unlike(thing)
 
 
 def is_table(thing):
@@ -30,21 +34,17 @@ def is_table(thing):
     if not isinstance(thing, tuple) or len(thing) != 3:
         return False
     name, columns, rule = thing
-    return is_name(name) and are_columns(columns) and is_one_of(RULES, rule)
+    return is_name(name) and isinstance(rule, str) and rule in RULES and are_columns(columns)
 
 
 def are_tables(thing):
     """Whether thing is tables: a tuple of one to six tables, called unlike."""
     if not isinstance(thing, tuple) or not 1 <= len(thing) <= MOST_TABLES:
         return False
-    return all([is_table(table) for table in thing]) and are_unlike(thing)
-
-
-def is_told_cell(kind, thing):
-    """Whether thing may be told as a cell of a column of this kind."""
-    if thing is None:
-        return True
-    return is_name(thing) if kind == "person" else is_worth(thing)
+    for table in thing:
+        if not is_table(table):
+            return False
+    return are_unlike(thing)
 
 
 def is_row(table, thing):
@@ -52,11 +52,19 @@ def is_row(table, thing):
     columns = table[1]
     if not isinstance(thing, tuple) or not 1 <= len(thing) <= len(columns):
         return False
-    return all([is_told_cell(column[1], cell) for column, cell in zip(columns, thing)])
+    for column, cell in zip(columns, thing):
+        if isinstance(cell, str):
+            if column[1] == "number" or not is_name(cell):
+                return False
+        elif cell is not None and (column[1] != "number" or not is_worth(cell)):
+            return False
+    return True
 
 
 def read_row(table, row):
     """The row with all columns of the table, those that it lacks as their defaults."""
+    if len(row) == len(table[1]):
+        return row
     defaults = [column[2] for column in table[1][len(row):]]
     return (*row, *defaults)
 
@@ -64,3 +72,11 @@ def read_row(table, row):
 def persons_of(row):
     """The persons in the row, sorted, each once."""
     return tuple(sorted(set([cell for cell in row if isinstance(cell, str)])))
+
+
+def has_persons(row):
+    """Whether there are persons in the row."""
+    for cell in row:
+        if isinstance(cell, str):
+            return True
+    return False

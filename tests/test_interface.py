@@ -13,6 +13,7 @@ FUNCTIONS = {
                 "without_key(tables, plan, stands, key)"],
     "models": ["is_model(columns, thing)", "learn(columns, rows, model)", "turns(model, one, other)"],
     "weights": ["weights(tables, plan, derived, name, column)"],
+    "paper": ["amiss(tables, plan, models, thing)", "trace(thing, persons)"],
     "combining": ["lets_combination(weights, persons, fewest, thing)", "combination(weights, persons, fewest)"],
     "texts": ["show_rows(rows)", "show_entries(entries)", "show_permits(permits)", "read_entries(text)",
               "read_permits(text)"],
@@ -26,6 +27,18 @@ CLASSES = {
         "put(self, permission)", "permits(self)", "allows(self, person, purpose, so, *, known=None)",
         "lets_row(self, row, purpose, so, *, known=None)", "without(self, persons)", "twin(self)", "__len__(self)",
         "__eq__(self, other)"])},
+    "kept": {"Kept": ("(tables, plan)", [
+        "turn(self, goes, comes)", "back(self)", "derived(self)", "table(self, name)", "twin(self)", "__len__(self)"])},
+    "house": {"House": ("(tables, plan, *, models=None, fewest=1)", [
+        "tell(self, entry)", "allow(self, permission)", "history(self)", "book(self)", "clock(self)",
+        "table(self, name, so, *, known=None)", "derived(self, so, *, known=None)",
+        "model(self, name, so, *, known=None)", "found(self, name, column, so, *, known=None)",
+        "serve(self, asker, purpose, name, at)", "copy(self, at)", "export(self, name, at)", "answer(self, number)",
+        "copied(self, number)", "exported(self, number)", "leaning(self, person, purpose)",
+        "publish(self, name, column, at)", "sums(self)", "forget(self, person)", "begin(self, person)",
+        "go_on(self)", "is_amid(self)", "fall(self)", "made(self)", "otherwise(self)", "shown(self, person, so)",
+        "paper(self)", "twin(self)", "__len__(self)", "__eq__(self, other)"])},
+    "desk": {"Desk": ("(tables, plan, *, models=None, fewest=1)", ["say(self, row)", "__len__(self)"])},
     "learnt": {"Learnt": ("(columns, model)", [
         "come(self, rows)", "go(self, rows)", "told(self)", "twin(self)", "__len__(self)"])},
 }
