@@ -1,22 +1,30 @@
 """What is learnt by a model while rows come and go."""
 
 from asnevertold.errors import NoModel, NoRows
-from asnevertold.models import is_model, learn, turns
+from asnevertold.models import is_model
 from asnevertold.names import is_name, is_whole
-
-
-def is_cell(kind, thing):
-    """Whether thing is a cell of a column of this kind, of a table or derived."""
-    if thing is None:
-        return True
-    return is_name(thing) if kind == "person" else is_whole(thing)
+from asnevertold.tallies import AnewTally, PairsTally, SharesTally
 
 
 def is_row_of(columns, thing):
-    """Whether thing is a row with just these columns."""
+    """Whether thing is a row with just these columns, of a table or derived."""
     if not isinstance(thing, tuple) or len(thing) != len(columns):
         return False
-    return all([is_cell(column[1], cell) for column, cell in zip(columns, thing)])
+    for column, cell in zip(columns, thing):
+        if cell is not None:
+            fits = is_name(cell) if column[1] == "person" else is_whole(cell)
+            if not fits:
+                return False
+    return True
+
+
+def tally_of(columns, model):
+    """A tally of no rows for the model."""
+    if model[0] == "shares":
+        return SharesTally(columns, model)
+    if model[0] == "pairs":
+        return PairsTally(columns, model)
+    return AnewTally(columns, model)
 
 
 class Learnt:
@@ -28,6 +36,7 @@ class Learnt:
         self._columns = list(columns)
         self._model = model
         self._rows = []
+        self._tally = tally_of(self._columns, model)
 
     def __len__(self):
         return len(self._rows)
@@ -35,7 +44,8 @@ class Learnt:
     def come(self, rows):
         """Take these rows in: told is what turned."""
         self._look_at(rows)
-        return self._turn_to(self._rows + rows)
+        self._rows.extend(rows)
+        return self._tally.shift(rows, 1, self._rows)
 
     def go(self, rows):
         """Let these rows go, each as often as it is among them: told is what turned."""
@@ -45,11 +55,12 @@ class Learnt:
             if row not in left:
                 raise NoRows()
             left.remove(row)
-        return self._turn_to(left)
+        self._rows = left
+        return self._tally.shift(rows, -1, self._rows)
 
     def told(self):
         """What is learnt of the rows."""
-        return learn(self._columns, self._rows, self._model)
+        return self._tally.told()
 
     def twin(self):
         """A Learnt alike, which goes on by itself."""
@@ -59,11 +70,8 @@ class Learnt:
 
     def _look_at(self, thing):
         """NoRows of anything but a list of rows of the columns."""
-        if not isinstance(thing, list) or not all([is_row_of(self._columns, row) for row in thing]):
+        if not isinstance(thing, list):
             raise NoRows()
-
-    def _turn_to(self, rows):
-        """Have these rows in the stead of those that there were: told is what turned."""
-        before = self.told()
-        self._rows = list(rows)
-        return turns(self._model, before, self.told())
+        for row in thing:
+            if not is_row_of(self._columns, row):
+                raise NoRows()
