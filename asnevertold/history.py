@@ -34,8 +34,11 @@ def row_without(row, persons):
 
 def put_in_order(rows, item):
     """Put the item, which begins with its thread, where the rows stay sorted by their threads."""
-    place = len(rows)
     # Keys mostly rise while rows are told, so the place is looked for from the end.
+    if not rows or rows[-1][0] < item[0]:
+        rows.append(item)
+        return
+    place = len(rows) - 1
     while place > 0 and rows[place - 1][0] > item[0]:
         place -= 1
     rows.insert(place, item)

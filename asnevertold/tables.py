@@ -1,6 +1,6 @@
 """Tables: what they are, their rows, and the persons in a row."""
 
-from asnevertold.names import are_unlike, is_name, is_worth
+from asnevertold.names import LAST_WORTH, are_unlike, is_name, is_worth
 
 MOST_TABLES = 6
 MOST_COLUMNS = 6
@@ -52,11 +52,14 @@ def is_row(table, thing):
     columns = table[1]
     if not isinstance(thing, tuple) or not 1 <= len(thing) <= len(columns):
         return False
-    for column, cell in zip(columns, thing):
-        if isinstance(cell, str):
-            if column[1] == "number" or not is_name(cell):
+    for place, cell in enumerate(thing):
+        if cell is None:
+            continue
+        if columns[place][1] == "number":
+            # As is_worth looks, but without a call for each of so many cells.
+            if not isinstance(cell, int) or isinstance(cell, bool) or not 0 <= cell <= LAST_WORTH:
                 return False
-        elif cell is not None and (column[1] != "number" or not is_worth(cell)):
+        elif not is_name(cell):
             return False
     return True
 
