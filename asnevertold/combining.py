@@ -5,7 +5,6 @@ told in the end: what a cell weighs together is nought where the cell's own vect
 weights, stands square to it.
 """
 
-from itertools import combinations
 from math import gcd, lcm
 
 from asnevertold.lots import share
@@ -97,12 +96,21 @@ def vectors_by_persons(weights, persons):
     return {theirs: list(told[theirs]) for theirs in told if theirs}
 
 
+def may_tell(basis, vectors):
+    """Whether the basis makes what has a last number that isn't nought, and what isn't square to all vectors."""
+    if not any([one[-1] != 0 for one in basis]):
+        return False
+    for vector in vectors:
+        for one in basis:
+            if times(one, vector) != 0:
+                return True
+    return False
+
+
 def chosen_of(basis, vectors):
-    """What the basis makes with a last number that isn't nought, not square to all the vectors, or None."""
+    """What the basis, which may tell, makes with a last number that isn't nought, not square to all the vectors."""
     last = [one for one in basis if one[-1] != 0]
     telling = [one for one in basis if any([times(one, vector) != 0 for vector in vectors])]
-    if not last or not telling:
-        return None
     for one in last:
         if one in telling:
             return one
@@ -110,9 +118,30 @@ def chosen_of(basis, vectors):
     return [number + more for number, more in zip(last[0], telling[0])]
 
 
-def lots_of(persons, many):
-    """All lots of so many of the persons."""
-    return list(combinations(persons, many))
+def chosen_without(basis, groups, persons, most):
+    """What is chosen where the first of the persons is in nothing that tells."""
+    left = {}
+    for theirs, vectors in groups.items():
+        if persons[0] in theirs:
+            basis = squared_to_all(basis, vectors)
+        else:
+            left[theirs] = vectors
+    return chosen_among(basis, left, persons[1:], most)
+
+
+def chosen_among(basis, groups, persons, most):
+    """What the basis makes that tells of some, but of at most so many more of these persons, or None.
+
+    The groups are those of none but these persons and others that it may tell of already.
+    """
+    if not may_tell(basis, [vector for vectors in groups.values() for vector in vectors]):
+        return None
+    if not persons:
+        return chosen_of(basis, [vector for vectors in groups.values() for vector in vectors])
+    found = chosen_without(basis, groups, persons, most)
+    if found is None and most > 0:
+        found = chosen_among(basis, groups, persons[1:], most - 1)
+    return found
 
 
 def shares_of(vector):
@@ -120,17 +149,6 @@ def shares_of(vector):
     last = vector[-1]
     sign = 1 if last > 0 else -1
     return [share(sign * number, sign * last) for number in vector]
-
-
-def chosen_within(basis, groups, lot):
-    """What the basis makes that tells of some persons, and of none but the lot's, or None."""
-    within = []
-    for theirs, vectors in groups.items():
-        if all([person in lot for person in theirs]):
-            within.extend(vectors)
-        else:
-            basis = squared_to_all(basis, vectors)
-    return chosen_of(basis, within)
 
 
 def combination(weights, persons, fewest):
@@ -142,13 +160,7 @@ def combination(weights, persons, fewest):
         if len(theirs) <= most:
             few[theirs] = vectors
         else:
-            # No lot that is small enough has all of these persons.
+            # Nothing that tells of so few tells of all of these persons.
             basis = squared_to_all(basis, vectors)
-    if not any([one[-1] != 0 for one in basis]):
-        return None
-    small = sorted(set([person for theirs in few for person in theirs]))
-    for lot in lots_of(small, min(most, len(small))):
-        found = chosen_within(basis, few, lot)
-        if found is not None:
-            return shares_of(found)
-    return None
+    found = chosen_among(basis, few, sorted(set([person for theirs in few for person in theirs])), most)
+    return None if found is None else shares_of(found)

@@ -195,14 +195,17 @@ class Combination(unittest.TestCase):
         self.assertGreater(found, 150)
         self.assertGreater(600 - found, 150)
 
-    def test_of_sixteen_sums_over_eight_persons(self):
+    def test_of_many_sums_over_sixteen_persons(self):
         chance = random.Random(1)
-        persons = {key(number): ("abcdefgh"[number % 8],) for number in range(60)}
-        weights = [{(one, "x"): chance.choice([1, 2]) for one in persons if chance.random() < 0.5} for _ in range(16)]
-        self.none(weights, 4, persons)
-        # Last goes out what all others but one person's cells are.
-        weights[15] = {cell: many for cell, many in weights[0].items() if persons[cell[0]] != ("a",)}
-        self.found(weights, 2, persons)
+        persons = {key(number): ("abcdefghijklmnop"[number % 16],) for number in range(60)}
+        for many in (1, 8, 30):
+            weights = [{(one, "x"): chance.choice([1, 2]) for one in persons if chance.random() < 0.5}
+                       for _ in range(many)] + [{(one, "x"): 1 for one in persons}] * 2
+            self.none(weights, 4, persons)
+            # Last goes out what the first has but one person's cells.
+            alone = persons[min(weights[0])[0]]
+            weights.append({cell: often for cell, often in weights[0].items() if persons[cell[0]] != alone})
+            self.found(weights, 2, persons)
 
     def test_what_is_handed_in_stays(self):
         weights, persons = copy.deepcopy(TWO), dict(PERSONS)
