@@ -7,11 +7,12 @@ from asnevertold.forgetting import fits, remade, renewed, total_of
 from asnevertold.frame import Frame
 from asnevertold.history import History
 from asnevertold.ledger import Ledger
+from asnevertold.models import are_models
 from asnevertold.names import is_moment, is_name, is_whole_within
 from asnevertold.permits import Book
 from asnevertold.plans import look_at_name
 from asnevertold.scenes import Scenes, learnt_of_rows
-from asnevertold.showing import are_models, found_by, keys_with, leans, new_learnt, new_lists, shown_to
+from asnevertold.showing import found_by, keys_with, leans, new_learnt, new_lists, shown_to
 from asnevertold.tables import are_tables, persons_of
 from asnevertold.texts import show_rows
 from asnevertold.weights import look_at_sum, sum_weights

@@ -2,7 +2,7 @@
 
 from asnevertold.errors import NoModel
 from asnevertold.lots import learn_lots
-from asnevertold.names import is_one_of, is_whole, is_whole_within, is_worth
+from asnevertold.names import is_name, is_one_of, is_whole, is_whole_within, is_worth
 from asnevertold.plans import kind_of
 from asnevertold.shares import learn_pairs, learn_shares
 from asnevertold.trees import learn_tree, nodes_by_way
@@ -73,6 +73,23 @@ def is_model(columns, thing):
         return False
     look = LOOKS[thing[0]]
     return look(columns, thing)
+
+
+def are_models(columns, thing):
+    """Whether thing is models of names with these columns: a dict from other names to tuples (name, model), or None."""
+    if thing is None:
+        return True
+    if not isinstance(thing, dict):
+        return False
+    return all([is_name(name) and name not in columns and is_named(columns, thing[name]) for name in thing])
+
+
+def is_named(columns, thing):
+    """Whether thing is a tuple (name, model) of one of the names with these columns."""
+    if not isinstance(thing, tuple) or len(thing) != 2:
+        return False
+    name, model = thing
+    return is_name(name) and name in columns and is_model(columns[name], model)
 
 
 def learn(columns, rows, model):

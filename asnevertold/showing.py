@@ -1,25 +1,6 @@
 """What a house looks up in its lists: what is found, who is leant on, what is shown; and new ones of what it tells."""
 
 from asnevertold.deriving import all_keys, keys_of
-from asnevertold.models import is_model
-from asnevertold.names import is_name
-
-
-def are_models(columns, thing):
-    """Whether thing is models of names with these columns: a dict from other names to tuples (name, model), or None."""
-    if thing is None:
-        return True
-    if not isinstance(thing, dict):
-        return False
-    return all([is_name(name) and name not in columns and is_named(columns, thing[name]) for name in thing])
-
-
-def is_named(columns, thing):
-    """Whether thing is a tuple (name, model) of one of the names with these columns."""
-    if not isinstance(thing, tuple) or len(thing) != 2:
-        return False
-    name, model = thing
-    return is_name(name) and name in columns and is_model(columns[name], model)
 
 
 def found_by(rows, place):
