@@ -1,9 +1,9 @@
 """The history: entries as they were let in, and what they tell at a moment, as known at one."""
 
-from asnevertold.errors import NoEntry, NoKey, NoPerson, NoTable, NoTables
+from asnevertold.errors import NoEntry, NoKey, NoPerson, NoTable
 from asnevertold.moments import END, look_at_moments
 from asnevertold.names import LAST_MOMENT, are_names, is_key, is_moment, is_span
-from asnevertold.tables import are_tables, has_persons, is_row, persons_of, read_row
+from asnevertold.tables import Looked, has_persons, is_row, persons_of, read_row
 
 ENTRY_LONG = 8
 
@@ -48,10 +48,9 @@ class History:
     """Entries of some tables, in the order in which they were let in."""
 
     def __init__(self, tables):
-        if not are_tables(tables):
-            raise NoTables()
-        self._tables = tables
-        self._by_name = {table[0]: table for table in tables}
+        # Who has tables that were looked at already, as a twin has, may make it of these.
+        self._looked = tables if isinstance(tables, Looked) else Looked(tables)
+        self._by_name = self._looked.by_name
         self._entries = []
         self._by_key = {}
         # By each key that was put right: from when on this is known.
@@ -63,7 +62,7 @@ class History:
         return len(self._entries)
 
     def __eq__(self, other):
-        return isinstance(other, History) and self._tables == other._tables and self._entries == other._entries
+        return isinstance(other, History) and self._alike() == other._alike()
 
     def put(self, entry):
         """Let the entry in, or refuse it with NoEntry."""
@@ -74,7 +73,7 @@ class History:
 
     def tables(self):
         """The tables that it was made of."""
-        return self._tables
+        return self._looked.told_tables
 
     def entries(self):
         """The entries, in order."""
@@ -116,7 +115,7 @@ class History:
 
     def twin(self):
         """A History alike, which goes on by itself."""
-        made = History(self._tables)
+        made = History(self._looked)
         made._entries = list(self._entries)
         made._by_key = {key: entry for key, entry in self._by_key.items()}
         made._righted = {key: known for key, known in self._righted.items()}
@@ -136,7 +135,7 @@ class History:
 
     def with_entries(self, entries):
         """A History of the same tables with other entries, which fit one another."""
-        made = History(self._tables)
+        made = History(self._looked)
         for entry in entries:
             made.let_in(entry)
         return made
@@ -188,6 +187,10 @@ class History:
                     lacking.append(key)
                     stay.append((key, name, left, *entry[3:]))
         return stay, list(gone), lacking
+
+    def _alike(self):
+        """What a History has alike with another one."""
+        return self._entries, self._looked.told_tables
 
     def _has_key(self, thing):
         """Whether an entry has the key; of anything that is no key none has."""

@@ -1,7 +1,7 @@
 """The house: what was told, what was allowed, what was asked, and what it is without whoever is forgotten."""
 
 from asnevertold.errors import (
-    Amid, Bare, NoEntry, NoFewest, NoModel, NoMoment, NoNumber, NoPermission, NoPerson, NoTables, Refused,
+    Amid, Bare, NoEntry, NoFewest, NoModel, NoMoment, NoNumber, NoPermission, NoPerson, Refused,
 )
 from asnevertold.forgetting import fits, remade, renewed, total_of
 from asnevertold.frame import Frame
@@ -13,7 +13,7 @@ from asnevertold.permits import Book
 from asnevertold.plans import look_at_name
 from asnevertold.scenes import Scenes, learnt_of_rows
 from asnevertold.showing import found_by, keys_with, leans, new_learnt, new_lists, shown_to
-from asnevertold.tables import are_tables, persons_of
+from asnevertold.tables import Looked, persons_of
 from asnevertold.texts import show_rows
 from asnevertold.weights import look_at_sum, sum_weights
 
@@ -24,9 +24,8 @@ class House:
     """A house of data."""
 
     def __init__(self, tables, plan, *, models=None, fewest=1):
-        if not are_tables(tables):
-            raise NoTables()
-        self._tables = {table[0]: table for table in tables}
+        looked = Looked(tables)
+        self._tables = looked.by_name
         self._frame = Frame(tables, plan)
         if not are_models(self._frame.columns, models):
             raise NoModel()
@@ -34,7 +33,7 @@ class House:
             raise NoFewest()
         self._models = {name: models[name] for name in models or {}}
         self._fewest = fewest
-        self._history = History(tables)
+        self._history = History(looked)
         self._book = Book()
         self._scenes = self._new_scenes(self._history, self._book)
         # What was asked, the moment last, by the sort of places that it has.

@@ -1,10 +1,10 @@
 """What is derived, kept while rows of tables go and come."""
 
-from asnevertold.errors import Bare, NoTables, NoTurn
+from asnevertold.errors import Bare, NoTurn
 from asnevertold.frame import Frame
 from asnevertold.names import is_key, is_name
 from asnevertold.plans import look_at_name
-from asnevertold.tables import are_tables, is_row
+from asnevertold.tables import Looked, is_row
 from asnevertold.threads import turned
 
 
@@ -12,10 +12,8 @@ class Kept:
     """The lists of tables and of a plan, turn by turn."""
 
     def __init__(self, tables, plan):
-        if not are_tables(tables):
-            raise NoTables()
+        self._by_name = Looked(tables).by_name
         self._frame = Frame(tables, plan)
-        self._by_name = {table[0]: table for table in tables}
         self._lists = self._frame.lists({table[0]: [] for table in tables})
         # The lists as they were ahead of each turn that stands.
         self._before = []

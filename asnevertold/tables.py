@@ -1,5 +1,6 @@
 """Tables: what they are, their rows, and the persons in a row."""
 
+from asnevertold.errors import NoTables
 from asnevertold.names import LAST_WORTH, are_unlike, is_name, is_worth
 
 MOST_TABLES = 6
@@ -45,6 +46,16 @@ def are_tables(thing):
         if not is_table(table):
             return False
     return are_unlike(thing)
+
+
+class Looked:
+    """Tables that were looked at, so that nobody has to do it again."""
+
+    def __init__(self, tables):
+        if not are_tables(tables):
+            raise NoTables()
+        self.told_tables = tables
+        self.by_name = {table[0]: table for table in tables}
 
 
 def is_row(table, thing):
