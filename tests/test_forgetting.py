@@ -210,6 +210,32 @@ class Report(unittest.TestCase):
         house.forget("bob")
         self.assertEqual(house.otherwise(), [("answer", 0), ("answer", 2), ("sum", 0)])
 
+    def test_without_a_plan_without_models_and_without_any_ask(self):
+        for fewest in (1, 4):
+            house = House(TABLES, (), fewest=fewest)
+            self.assertEqual(house.forget("ann"), ([], [], [], []))
+            house.tell(at(0, "visit", ("ann", 1, 5), 0))
+            house.tell(at(1, "stay", ("ann", "bob"), 0))
+            self.assertEqual(house.begin("ann"), [])
+            everything = [None, *range(10)]
+            self.assertEqual(house.go_on(), ([("s", 0)], [("s", 1)], [],
+                                             [(("s", 0), "day", everything), (("s", 0), "cost", everything)]))
+            self.assertEqual(house.paper(), [(("entries",), [at(1, "stay", (None, "bob"), 0)]), (("permits",), [])])
+            self.assertEqual((house.otherwise(), house.made(), house.clock()), ([], [], 0))
+
+    def test_asks_of_the_same_moment(self):
+        house = House(TABLES, PLAN)
+        house.tell(at(0, "visit", ("ann", 1, 5), 0))
+        for _ in range(2):
+            for deed, told in (("copy", (3,)), ("export", ("visit", 3)), ("publish", ("visit", "cost", 3))):
+                do(house, deed, told)
+        row = (v(0), ("ann", 1, 5))
+        remade = house.forget("ann")[2]
+        for number in (0, 1):
+            for place in (("copy", number, "visit"), ("export", number)):
+                self.assertIn((place, [row], []), remade)
+            self.assertIn((("sum", number), [5], [0]), remade)
+
     def test_no_person(self):
         house = three()
         kept = house.twin()

@@ -582,13 +582,61 @@ class Called(unittest.TestCase):
             lists = [turned for turned in wanted[2] if turned[0][0] != "model"]
             self.assertEqual([turned for turned in told[2] if turned[0][0] != "model"], called(lists, otherwise))
 
+    def test_tables_derivings_columns_and_sources_called_otherwise(self):
+        tables, plan, models = all_called(NEW)
+        for seed in range(60):
+            one, done, _ = drawn(seed, 20)
+            other = House(tables, plan, models=models)
+            for deed, told in done:
+                # A purpose is called as it was.
+                do(other, deed, tuple(called(thing, NEW) for thing in told))
+            for so in (0, 5, 9):
+                self.assertEqual(other.derived(so), called(one.derived(so), NEW))
+                for name in MODELS:
+                    self.assertEqual(other.model(name, so), called(one.model(name, so), NEW))
+                self.assertEqual(other.shown("ann", so), called(one.shown("ann", so), NEW))
+                self.assertEqual(other.found(NEW["visit"], NEW["who"], so), called(one.found("visit", "who", so), NEW))
+            self.assertEqual(other.sums(), called(one.sums(), NEW))
+            for number in range(sum(deed == "export" for deed, _ in done)):
+                name, moment, text = one.exported(number)
+                rows = called(one.table(name, moment, known=moment), NEW)
+                self.assertEqual(other.exported(number), (NEW[name], moment, show_rows(rows)))
+            for number in range(sum(deed == "serve" for deed, _ in done)):
+                self.assertEqual(other.answer(number), called(one.answer(number), NEW))
+            told, wanted = other.forget("ann"), called(one.forget("ann"), NEW)
+            self.assertEqual((told[:2], told[3]), (wanted[:2], wanted[3]))
+            # What turned of pairs is sorted by the columns' names, so it is sorted anew.
+            self.assertEqual(*[[(place, sorted(goes, key=repr), comes) for place, goes, comes in report[2]]
+                               for report in (told, wanted)])
+            self.assertEqual(other.otherwise(), one.otherwise())
+
+
+# The names of tables and derivings, and of sources, stay in their order; columns are called anyhow.
+NEW = {**{name: "n" + "abcdefghijklmnop"[place] for place, name in enumerate(sorted(NAMES))}, "a": "v", "b": "w",
+       **{name: "c" + "zyxwvutsr"[place] for place, name in enumerate(
+           ("who", "day", "cost", "guest", "host", "night", "grade", "by", "rest"))}}
+
+
+def all_called(new):
+    """The tables, the plan and the models, called otherwise, words as they are."""
+    def of(*places):
+        return lambda told: tuple(called(one, new) if place in places else one for place, one in enumerate(told))
+
+    derivings = {"keep": of(1, 2), "outer": of(1, 2, 3, 4), "more": of(1, 2, 3, 5), "group": of(1, 2, 4),
+                 "window": of(1, 2, 3, 5), "first": of(1, 2, 3), "both": of(1, 2)}
+    kinds = {"shares": of(1), "pairs": of(1), "tree": of(1, 2), "lots": of(1)}
+    tables = tuple((new[name], tuple((new[column], *told) for column, *told in columns), rule)
+                   for name, columns, rule in TABLES)
+    plan = tuple((new[name], derivings[deriving[0]](deriving)) for name, deriving in PLAN)
+    return tables, plan, {name: (new[source], kinds[model[0]](model)) for name, (source, model) in MODELS.items()}
+
 
 def called(thing, otherwise):
-    """The thing with persons, in whatever it has, called otherwise."""
+    """The thing with all that is called otherwise in whatever it has."""
     if isinstance(thing, str) or thing is None:
         return otherwise.get(thing, thing)
     if isinstance(thing, dict):
-        return {name: called(told, otherwise) for name, told in thing.items()}
+        return {called(name, otherwise): called(told, otherwise) for name, told in thing.items()}
     if isinstance(thing, (list, tuple)):
         return type(thing)([called(one, otherwise) for one in thing])
     return thing
