@@ -3,7 +3,7 @@
 from asnevertold.alike import is_just
 from asnevertold.deriving import keys_of
 from asnevertold.frame import Frame
-from asnevertold.names import is_key, is_one_of
+from asnevertold.names import is_key, is_name
 from asnevertold.steps import made_rows
 
 
@@ -11,7 +11,7 @@ def has_names(known, thing):
     """Whether thing is a dict with just these names."""
     if not isinstance(thing, dict) or len(thing) != len(known):
         return False
-    return all([is_one_of(list(known), name) for name in thing])
+    return all([is_name(name) and name in known for name in thing])
 
 
 def judged(frame, stands, thing):
